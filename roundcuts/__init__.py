@@ -1,0 +1,1 @@
+"""Roundcuts: broken corners cut off by rounded sums."""
