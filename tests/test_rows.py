@@ -231,5 +231,21 @@ class Shortened(unittest.TestCase):
             self.assertEqual(shortened(shortened(row)), shortened(row))
 
 
+class AskedAgain(unittest.TestCase):
+    """Each question has its answer, whatever was asked in between, and leaves what it was handed."""
+
+    def answers(self, row, place):
+        return [value(row, place), keeps(row, place), is_tight(row, place), shortened(row), go_round((row,))]
+
+    def test_the_answers_stay(self):
+        places = [((1, 2), (2, 3)), ((0, 1), (-5, 1)), ((7, 3), (7, 3))]
+        asked = [(row, place) for row in SMALL_ROWS for place in places]
+        before = copy.deepcopy(asked)
+        forth = [self.answers(row, place) for row, place in asked]
+        back = [self.answers(row, place) for row, place in reversed(asked)]
+        self.assertEqual(forth, back[::-1])
+        self.assertEqual(asked, before)
+
+
 if __name__ == "__main__":
     unittest.main()
