@@ -36,3 +36,7 @@ def plus(one, other):
 
 def times(whole, fraction):
     return lowest(whole * fraction[0], fraction[1])
+
+
+def is_less(one, other):
+    return one[0] * other[1] < other[0] * one[1]
