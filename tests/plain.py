@@ -81,6 +81,50 @@ def plain_corners(rows):
     return [place_of(x, y) for x, y in in_order(points_kept(rows))]
 
 
+def plain_sum(rows, weights):
+    """The three sums by weights that may be fractions of either sort."""
+    by = [weight if isinstance(weight, Fraction) else Fraction(*weight) for weight in weights]
+    return tuple(sum((row[at] * share for row, share in zip(rows, by)), Fraction(0)) for at in range(3))
+
+
+def two_row_cuts(field):
+    """All cuts by one or two rows, with a turn between them, by weights below 1: a dict of the least c by (a, b)."""
+    cuts = {}
+    for one, other in itertools.permutations(field, 2):
+        for (a, b), weights in directions_within(one, other):
+            c = plain_sum((one, other), weights)[2].__floor__()
+            cuts[a, b] = min(c, cuts.get((a, b), c))
+    return cuts
+
+
+def directions_within(one, other):
+    """All directions that are so many times the one and the other together, both below 1, where a turn is above 0."""
+    (a, b, *more), (d, e, *more) = one, other
+    turn = a * e - b * d
+    if turn <= 0:
+        return
+    for x in range(min(0, a) + min(0, d), max(0, a) + max(0, d) + 1):
+        for y in range(min(0, b) + min(0, e), max(0, b) + max(0, e) + 1):
+            of_one, of_other = x * e - y * d, a * y - b * x
+            if (x, y) != (0, 0) and 0 <= of_one < turn and 0 <= of_other < turn:
+                yield (x, y), (Fraction(of_one, turn), Fraction(of_other, turn))
+
+
+def plain_corners_behind(field, cuts):
+    """The corners of what the field's rows and the cuts leave, as places, of more cuts than could go by pairs."""
+    rows = list(field)
+    points = points_kept(rows)
+    for a, b, c in cuts:
+        if any(a * x + b * y > c for x, y in points):
+            rows.append((a, b, c))
+            points = points_kept(rows)
+            if not points:
+                return []
+            # A row that is tight at no corner leaves out nothing that the others don't.
+            rows = [(d, e, f) for d, e, f in rows if any(d * x + e * y == f for x, y in points)]
+    return [place_of(x, y) for x, y in in_order(points)]
+
+
 def whole_points(field):
     span = range(-12, 13)
     return [(x, y) for x in span for y in span if all(a * x + b * y <= c for a, b, c in field)]

@@ -121,6 +121,8 @@ class Fields(unittest.TestCase):
     def test_corners_very_far_off(self):
         self.told(((30, 29, 1000), (-29, -28, 1000), (-1, 0, 1000), (1, 0, 1000)), False)
         self.told(((30, 29, 1000), (-30, -29, 1000), (29, 28, 1000), (-29, -28, 1000)), False)
+        # All that is left of these goes from (-57000, 59000) to (-29000, 30000).
+        self.told(((30, 29, 1000), (-29, -28, 1000), (29, 28, -1000), (-1, -1, -1000)), False)
 
     def test_a_truth_at_any_place(self):
         unit = ((1, 0, 1), (-1, 0, 0), (0, 1, 1), (0, -1, 0))

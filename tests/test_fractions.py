@@ -2,7 +2,7 @@ import math
 import unittest
 from fractions import Fraction
 
-from roundcuts.fractions import are_whole, greatest_divisor, is_fraction, is_whole, lowest, plus, times
+from roundcuts.fractions import are_whole, greatest_divisor, is_fraction, is_less, is_whole, lowest, plus, times
 from things import odd_things
 
 GREAT = 10 ** 30 - 1
@@ -77,6 +77,8 @@ class Reckoning(unittest.TestCase):
             for other in some:
                 total = plus((one.numerator, one.denominator), (other.numerator, other.denominator))
                 self.told(total, one + other)
+                less = is_less((one.numerator, one.denominator), (other.numerator, other.denominator))
+                self.assertIs(less, one < other, (one, other))
 
 
 if __name__ == "__main__":
