@@ -11,9 +11,10 @@ def are_whole(things):
 
 
 def is_fraction(thing):
-    if not isinstance(thing, tuple) or len(thing) != 2 or not are_whole(thing):
+    if not isinstance(thing, tuple) or len(thing) != 2:
         return False
-    return thing[1] >= 1 and greatest_divisor(thing[0], thing[1]) == 1
+    top, bottom = thing
+    return is_whole(top) and is_whole(bottom) and bottom >= 1 and greatest_divisor(top, bottom) == 1
 
 
 def greatest_divisor(one, other):

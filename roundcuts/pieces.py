@@ -12,9 +12,21 @@ FAR = 60001
 
 def corners_left(rows):
     """The corners of what the rows leave, as places; some rows of a field's size must go all round."""
-    piece = [(-FAR, -FAR, 1), (FAR, -FAR, 1), (FAR, FAR, 1), (-FAR, FAR, 1)]
+    return places_of(piece_left(rows))
+
+
+def piece_left(rows):
+    """What the rows leave of a box that all corners of rows of a field's size lie in."""
+    return cut_down([(-FAR, -FAR, 1), (FAR, -FAR, 1), (FAR, FAR, 1), (-FAR, FAR, 1)], rows)
+
+
+def cut_down(piece, rows):
     for row in rows:
         piece = cut_piece(piece, row)
+    return piece
+
+
+def places_of(piece):
     return [(lowest(x, bottom), lowest(y, bottom)) for x, y, bottom in from_least(piece)]
 
 

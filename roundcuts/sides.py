@@ -11,21 +11,25 @@ from roundcuts.turns import parts
 
 def sides_at(field, place):
     """Pairs of numbers of rows tight at the place: the second is the next one to the left of the first."""
-    numbers = tight_numbers(field, place)
+    return sides_among(field, tight_numbers(field, place))
+
+
+def sides_among(rows, numbers):
+    """The same of the numbers of all rows that are tight at some place."""
     pairs = []
     for number in numbers:
-        beside = next_to_the_left(field, numbers, number)
+        beside = next_to_the_left(rows, numbers, number)
         if beside is not None:
             pairs.append((number, beside))
     return pairs
 
 
-def next_to_the_left(field, numbers, number):
+def next_to_the_left(rows, numbers, number):
     """Less than half a turn away; None where there is no such row."""
     nearest = None
     for other in numbers:
-        if turn_to(field[number], field[other]) > 0:
-            if nearest is None or turn_to(field[other], field[nearest]) > 0:
+        if turn_to(rows[number], rows[other]) > 0:
+            if nearest is None or turn_to(rows[other], rows[nearest]) > 0:
                 nearest = other
     return nearest
 

@@ -3,7 +3,7 @@
 from roundcuts.corners import corners
 from roundcuts.errors import NoCut, NoWeights, Nothing
 from roundcuts.fields import need_field
-from roundcuts.fractions import is_fraction, plus, times
+from roundcuts.fractions import greatest_divisor, is_fraction, lowest
 from roundcuts.rows import is_row
 from roundcuts.sides import sides_at, weights_towards
 
@@ -23,10 +23,21 @@ def are_weights(field, thing):
 
 def sum_of(rows, weights):
     """All a, all b and all c, each times its row's weight, together."""
-    totals = [(0, 1), (0, 1), (0, 1)]
-    for row, weight in zip(rows, weights):
-        totals = [plus(total, times(number, weight)) for total, number in zip(totals, row)]
-    return tuple(totals)
+    tops, bottom = whole_sum(rows, weights)
+    return tuple([lowest(top, bottom) for top in tops])
+
+
+def whole_sum(rows, weights):
+    """The three sums as a list of their tops, and a bottom that they share, not brought to lowest terms."""
+    used = [(row, weight) for row, weight in zip(rows, weights) if weight[0] != 0]
+    bottom = 1
+    for row, weight in used:
+        bottom = bottom // greatest_divisor(bottom, weight[1]) * weight[1]
+    tops = [0, 0, 0]
+    for row, weight in used:
+        many = bottom // weight[1] * weight[0]
+        tops = [top + many * number for top, number in zip(tops, row)]
+    return tops, bottom
 
 
 def cut_by(field, weights):

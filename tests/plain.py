@@ -24,12 +24,25 @@ TWICE = TRIANGLE + TRIANGLE
 DOUBLED = ((2, 0, 5), (4, 0, 10), (-1, 0, 0), (0, -1, 0), (0, 3, 5), (0, 3, 5))
 # Three and more rows are tight at (0, 0) and at (5/2, 5/2).
 CROWDED = ((-1, 0, 0), (0, -1, 0), (-1, -1, 0), (2, 0, 5), (0, 2, 5), (1, 1, 5), (3, 1, 10))
+# Thirty rounds: whole places are left at its foot alone. Of the next one none are.
+TALL_SPIKE = ((-30, 1, -3), (30, 1, 27), (0, -1, 12))
+EMPTY_SPIKE = ((-24, 1, 0), (24, 1, 24), (0, -2, -1))
+LYING_SPIKE = ((1, 9, 7), (1, -8, 3), (-2, 1, 8))
+SLANT_SPIKE = ((5, -4, 3), (-4, 5, 3), (-2, -3, 7))
+BETWEEN_LINES = ((3, 0, 2), (-3, 0, -1), (0, 1, 4), (0, -1, 4))
+# No whole place is left, which two rounds show, and one does not.
+SLANT_SQUARE = ((2, 2, 3), (-2, -2, -1), (2, -2, 1), (-2, 2, 1))
+EMPTY_TRIANGLE = ((-2, -6, 3), (-6, 4, -2), (2, 2, 1))
 
 FIELDS = {
     "box": BOX, "half box": HALF_BOX, "triangle": TRIANGLE, "broken triangle": BROKEN_TRIANGLE, "spike": SPIKE,
     "long spike": LONG_SPIKE, "eight": EIGHT, "one place": ONE_PLACE, "one broken place": ONE_BROKEN_PLACE,
     "pinned": PINNED, "stretch": STRETCH, "broken stretch": BROKEN_STRETCH, "no place": NO_PLACE,
     "no place of three": NO_PLACE_OF_THREE, "twice": TWICE, "doubled": DOUBLED, "crowded": CROWDED,
+}
+DEEP_FIELDS = {
+    "tall spike": TALL_SPIKE, "empty spike": EMPTY_SPIKE, "lying spike": LYING_SPIKE, "slant spike": SLANT_SPIKE,
+    "between lines": BETWEEN_LINES, "slant square": SLANT_SQUARE, "empty triangle": EMPTY_TRIANGLE,
 }
 
 
@@ -123,6 +136,46 @@ def plain_corners_behind(field, cuts):
             # A row that is tight at no corner leaves out nothing that the others don't.
             rows = [(d, e, f) for d, e, f in rows if any(d * x + e * y == f for x, y in points)]
     return [place_of(x, y) for x, y in in_order(points)]
+
+
+def clipped(points, row):
+    """What is left by the row of what has these corners, in order: its own corners, in order."""
+    a, b, c = row
+    over = [a * x + b * y - c for x, y in points]
+    if all(off <= 0 for off in over):
+        return points
+    found = {point for point, off in zip(points, over) if off <= 0}
+    for at, (x, y) in enumerate(points):
+        (u, v), off, before = points[at - 1], over[at], over[at - 1]
+        if off * before < 0:
+            found.add(((x * before - u * off) / (before - off), (y * before - v * off) / (before - off)))
+    return in_order(found)
+
+
+def plain_rounds(field, more=0):
+    """The lists of corners from no round on up to the first without a broken one, as places, by the words.
+
+    Each round is all rows up to the field's greatest a or b, or so many more, at what was left before, rounded down.
+    """
+    size = more + max(abs(number) for a, b, c in field for number in (a, b))
+    asked = [(a, b) for a in range(-size, size + 1) for b in range(-size, size + 1) if (a, b) != (0, 0)]
+    points = in_order(points_kept(field))
+    lists = [points]
+    while any(x.denominator > 1 or y.denominator > 1 for x, y in points):
+        cuts = [(a, b, max(a * x + b * y for x, y in points).__floor__()) for a, b in asked]
+        points = functools.reduce(clipped, cuts, points)
+        lists.append(points)
+    return [[place_of(x, y) for x, y in points] for points in lists]
+
+
+def plain_moved(field, u, v):
+    return tuple((a, b, c + a * u + b * v) for a, b, c in field)
+
+
+def plain_turned(field, turn):
+    """By the turn that leads back."""
+    p, q, r, s = turn
+    return tuple((a * p + b * r, a * q + b * s, c) for a, b, c in field)
 
 
 def whole_points(field):
