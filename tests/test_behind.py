@@ -10,11 +10,12 @@ from plain import (
     STRETCH, TALL_SPIKE, TRIANGLE, TWICE, is_plain_field, place_of, plain_moved, plain_rounds, plain_turned, point_of,
     some_fields, whole_points,
 )
+from refusals import refused
 from things import odd_things
 
 from roundcuts.behind import all_rounds, behind, hull, lost_behind, whole_places
 from roundcuts.corners import broken, corners
-from roundcuts.errors import CutError, NoNumber
+from roundcuts.errors import NoNumber
 from roundcuts.rounds import paper_against, round_corners
 
 HALF = Fraction(1, 2)
@@ -135,11 +136,7 @@ class Behind(unittest.TestCase):
         wrong = [-1, 41, -40, 42, 10 ** 29, -10 ** 29, True, False, None, "1", "", (1, 1), (1, 2), [], [1], {}, {1: 1}]
         for many in wrong + odd_things():
             for field in (SPIKE, BOX, NO_PLACE):
-                before = copy.deepcopy(many)
-                with self.assertRaises(CutError) as caught:
-                    behind(field, many)
-                self.assertIs(caught.exception.__class__, NoNumber, many)
-                self.assertEqual(many, before)
+                refused(self, NoNumber, behind, field, many)
 
     def test_no_field(self):
         for many in [0, 1, 40, -1, 41] + odd_things()[::6]:

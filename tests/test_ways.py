@@ -332,6 +332,11 @@ class WayOf(unittest.TestCase):
         self.shown(TALL_SPIKE, (-59, 60, -180), 30)
         self.shown(TALL_SPIKE, (0, 1, -4), None)
 
+    def test_far_fewer_lines_than_2000(self):
+        # No other field that was tried has ways of more lines than spikes of thirty rounds and their like.
+        for row in ((0, 1, -3), (-59, 60, -180), (60, 59, -117)):
+            self.assertLess(len(way_of(TALL_SPIKE, row)), 200)
+
     def test_the_fields_own_rows(self):
         for field in (BOX, TWICE, DOUBLED, PINNED, CROWDED, STRETCH, NO_PLACE, SPIKE):
             for row in field:
